@@ -1,0 +1,1 @@
+"""Askladder: programs that ask those above them."""
