@@ -44,10 +44,10 @@ class RowWords:
 
     def take_args(self):
         """The atoms ahead of the semicolon."""
-        args = []
+        atoms = []
         while self.peek() != ";":
-            args.append(self.take_atom())
-        return tuple(args)
+            atoms.append(self.take_atom())
+        return tuple(atoms)
 
     def take_kind(self):
         word = self.take()

@@ -12,7 +12,13 @@ INTERFACE = {
     "words": ("is_name", "is_figures"),
     "reader": ("read",),
     "writer": ("shown",),
+    "parts": ("all_parts", "body_of", "begun_with", "pieces"),
+    "sound": ("look",),
+    "asking": ("asks_of", "way_of"),
+    "walk": ("Walk",),
+    "runs": ("ran",),
 }
+METHODS = {("walk", "Walk"): ("turn", "ladder", "steps", "end", "book")}
 
 
 def bound_names(tree):
@@ -60,6 +66,25 @@ class Package(unittest.TestCase):
             defined = [node.name for node in body if isinstance(node, (ast.FunctionDef, ast.ClassDef))]
             for name in names:
                 self.assertEqual(defined.count(name), 1, (module, name))
+
+    def test_methods_are_defined_in_their_classes(self):
+        for (module, name), methods in METHODS.items():
+            tree = ast.parse((PACKAGE / (module + ".py")).read_text(encoding="utf-8"))
+            found = next(node for node in tree.body if isinstance(node, ast.ClassDef) and node.name == name)
+            defined = [node.name for node in found.body if isinstance(node, ast.FunctionDef)]
+            for method in methods:
+                self.assertEqual(defined.count(method), 1, (name, method))
+
+    def test_no_two_files_import_from_each_other(self):
+        above = {}
+        for file in FILES:
+            nodes = ast.walk(ast.parse(file.read_text(encoding="utf-8")))
+            above[file.stem] = {node.module.split(".")[1] for node in nodes if isinstance(node, ast.ImportFrom)}
+        while above:
+            free = [name for name, names in above.items() if not names & set(above)]
+            self.assertTrue(free, sorted(above))
+            for name in free:
+                del above[name]
 
 
 if __name__ == "__main__":

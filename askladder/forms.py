@@ -1,0 +1,40 @@
+"""What stands where in a piece."""
+
+# By its sort where a piece has its atoms, from the left; those of its args stand behind them.
+ATOMS_AT = {
+    "give": (1,), "let": (2,), "sum": (3, 4), "empty": (), "put": (2, 3), "last": (2, 3), "call": (),
+    "ask": (3,), "keep": (3,), "go": (2, 3, 4), "tell": (1,), "if": (1,), "case": (1,),
+}
+
+
+def args_of(piece):
+    """The args of a call or a keep; of another piece none."""
+    if piece[0] == "call":
+        return piece[3]
+    if piece[0] == "keep":
+        return piece[5]
+    return ()
+
+
+def function_of(piece):
+    """The name of the function of a call or a keep."""
+    return piece[2] if piece[0] == "call" else piece[4]
+
+
+def atoms_of(piece):
+    """The atoms of the piece, from the left."""
+    atoms = [piece[at] for at in ATOMS_AT[piece[0]]]
+    atoms.extend(list(args_of(piece)))
+    return atoms
+
+
+def bodies_of(piece):
+    """The bodies right beneath the piece, in order."""
+    sort = piece[0]
+    if sort == "give":
+        return []
+    if sort == "if":
+        return [piece[2], piece[3]]
+    if sort == "case":
+        return [piece[2], piece[5]]
+    return [piece[-1]]
