@@ -4,6 +4,7 @@ Bodies are read and put together without recursion, for they may be nested to an
 """
 
 from askladder.errors import NoText
+from askladder.forms import whole_piece
 
 SIGNS = ("+", "-", "*", "<", "=")
 
@@ -103,19 +104,6 @@ def another_body(row, heads, arms):
             return True
         row.expect("end")
     return False
-
-
-def whole_piece(head, bodies):
-    """The piece of the head, its bodies taken from the end of those already made."""
-    sort = head[0]
-    if sort == "give":
-        return head
-    body = bodies.pop()
-    if sort == "if":
-        return (sort, head[1], body, bodies.pop())
-    if sort == "case":
-        return (sort, head[1], body, head[2], head[3], bodies.pop())
-    return (*head, body)
 
 
 def joined(heads):

@@ -24,7 +24,7 @@ def look_at_kind(known, kind):
 
 def look_at_atoms(scope, piece):
     for atom in atoms_of(piece):
-        if isinstance(atom, str) and atom not in scope.kinds:
+        if isinstance(atom, str) and atom not in scope.of_name:
             raise NoProgram("unknown", atom)
 
 

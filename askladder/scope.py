@@ -1,7 +1,6 @@
-"""Goes through a part piece by piece, with the kinds of the names bound above each."""
+"""The kinds of the names in a part."""
 
-from askladder.errors import NoProgram
-from askladder.forms import bodies_of
+from askladder.names import Names
 
 NUM = ("num",)
 
@@ -13,43 +12,19 @@ def thing_kind(row_kind):
     return ("hold", row_kind[1], row_kind[2])
 
 
-class Scope:
-    """The pieces of a part, taken in order; known is what the program has under each name."""
+class Scope(Names):
+    """The pieces of a part with the kinds of the names; known is what the program has under each name."""
 
     def __init__(self, known, begun, body):
+        Names.__init__(self, begun, body)
         self.known = known
-        self.kinds = {}
-        self.bound = []
-        # Each body still to be taken, with how many names stay bound above it, and those bound right ahead of it.
-        self.waiting = [(body, 0, begun)]
-
-    def has_more(self):
-        return len(self.waiting) > 0
-
-    def take(self):
-        """The next piece; a name bound ahead of it that is bound above already is refused."""
-        piece, stay, binds = self.waiting.pop()
-        while len(self.bound) > stay:
-            gone = self.bound.pop()
-            del self.kinds[gone]
-        for name, kind in binds:
-            if name in self.kinds:
-                raise NoProgram("twice", name)
-            self.kinds[name] = kind
-            self.bound.append(name)
-        return piece
 
     def pass_on(self, piece):
-        """Behind a piece that was taken: its bodies are next, its names bound ahead of the last of them."""
-        below = bodies_of(piece)
-        stay = len(self.bound)
-        if below:
-            self.waiting.append((below[-1], stay, self.binds_of(piece)))
-        if len(below) == 2:
-            self.waiting.append((below[0], stay, []))
+        """Behind a piece that was taken: its bodies are next."""
+        self.lead_on(piece, self.binds_of(piece))
 
     def kind_of(self, atom):
-        return self.kinds[atom] if isinstance(atom, str) else NUM
+        return self.of_name[atom] if isinstance(atom, str) else NUM
 
     def binds_of(self, piece):
         """A list of (name, kind): what the piece binds."""

@@ -1,72 +1,11 @@
 """The plain ladder, turn by turn."""
 
-from askladder.forms import args_of, function_of
+from askladder.doing import plain_args
 from askladder.known import Known
-from askladder.parts import all_parts, begun_with, body_of, pieces, second_numbers
-from askladder.worth import plain_worth, worth
+from askladder.run import Run
 
 
-class Numbered:
-    """A part as it is run: the names that it begins with, its pieces, where their second bodies begin."""
-
-    def __init__(self, program, part):
-        body = body_of(program, part)
-        self.begun = [name for name, kind in begun_with(program, part)]
-        self.pieces = pieces(body)
-        self.seconds = second_numbers(body)
-
-
-def args_worth(piece, names):
-    return [worth(arg, names) for arg in args_of(piece)]
-
-
-def do_plain(walk, piece, names):
-    walk.answered(plain_worth(piece, names))
-
-
-def do_tell(walk, piece, names):
-    walk.rows.append(("tell", worth(piece[1], names)))
-    walk.go_on(False, {})
-
-
-def do_if(walk, piece, names):
-    walk.go_on(worth(piece[1], names) == 0, {})
-
-
-def do_case(walk, piece, names):
-    row = worth(piece[1], names)
-    walk.go_on(len(row) > 0, {piece[3]: row[0], piece[4]: row[1:]} if row else {})
-
-
-def do_call(walk, piece, names):
-    walk.put_part(("def", function_of(piece)), args_worth(piece, names))
-
-
-def do_keep(walk, piece, names):
-    walk.put_keep(piece[2], worth(piece[3], names))
-    walk.put_part(("def", function_of(piece)), args_worth(piece, names))
-
-
-def do_ask(walk, piece, names):
-    walk.ask(piece[2], worth(piece[3], names))
-
-
-def do_go(walk, piece, names):
-    walk.lay_back(worth(piece[2], names)[1], worth(piece[3], names), worth(piece[4], names))
-
-
-def do_give(walk, piece, names):
-    walk.give(worth(piece[1], names))
-
-
-DOINGS = {
-    "let": do_plain, "sum": do_plain, "empty": do_plain, "put": do_plain, "last": do_plain,
-    "tell": do_tell, "if": do_if, "case": do_case, "call": do_call, "keep": do_keep,
-    "ask": do_ask, "go": do_go, "give": do_give,
-}
-
-
-class Walk:
+class Walk(Run):
     """A run of the function f on the plain ladder.
 
     A step that stands is never changed, but replaced by another: so what was cut stays as it was.
@@ -74,24 +13,18 @@ class Walk:
     """
 
     def __init__(self, program, f, handed):
+        Run.__init__(self, program)
         self.heard = Known(program).heard
-        self.numbered = {part: Numbered(program, part) for part in all_parts(program)}
         self.standing = []
         self.cut = []
-        self.rows = []
-        self.done = 0
-        self.ended = None
-        self.put_part(("def", f), [tuple(arg) if isinstance(arg, list) else arg for arg in handed])
+        self.put_part(("def", f), plain_args(handed))
 
     def turn(self):
         """Does the next piece; True while there is no end behind it."""
         if self.ended is not None:
             return False
-        self.done += 1
         _, part, number, names = self.standing[-1]
-        piece = self.numbered[part].pieces[number]
-        do_piece = DOINGS[piece[0]]
-        do_piece(self, piece, names)
+        self.step(part, number, names)
         return self.ended is None
 
     def ladder(self):
@@ -111,24 +44,21 @@ class Walk:
         return list(self.rows)
 
     def put_part(self, part, begun):
-        names = dict(zip(self.numbered[part].begun, begun))
-        self.standing.append(("part", part, 0, names))
+        self.standing.append(("part", part, 0, self.numbered[part].names_with(begun)))
 
     def put_keep(self, keeper, note):
-        self.rows.append(("keep", keeper))
         self.standing.append(("keep", keeper, note))
 
-    def go_on(self, second, binds):
-        """The highest part goes on in the first or the second body of its piece, with these names bound."""
+    def go_on(self, second, worths):
+        """The highest part goes on in the first or the second body of its piece, whose names are bound to these."""
         _, part, number, names = self.standing[-1]
-        following = self.numbered[part].seconds[number] if second else number + 1
-        self.standing[-1] = ("part", part, following, {**names, **binds})
+        following, bound = self.numbered[part].gone_on(number, names, second, worths)
+        self.standing[-1] = ("part", part, following, bound)
 
-    def answered(self, given):
-        """The highest part binds the name that its piece binds, and goes on."""
-        _, part, number, names = self.standing[-1]
-        x = self.numbered[part].pieces[number][1]
-        self.go_on(False, {x: given})
+    def keep(self, keeper, note, f, handed):
+        self.rows.append(("keep", keeper))
+        self.put_keep(keeper, note)
+        self.put_part(("def", f), handed)
 
     def give(self, given):
         self.standing.pop()
@@ -162,10 +92,10 @@ class Walk:
         self.standing = below
         self.put_part(("hear", keeper, q), [asked, hold, note])
 
-    def lay_back(self, j, answer, note):
-        """Goes on with the hold of this number: its asking part is answered, its keep has this note."""
-        self.rows.append(("go", j))
-        keep, *above = self.cut[j]
-        self.standing.append(("keep", keep[1], note))
+    def go(self, hold, answer, note):
+        """Lays back what is held: its asking part is answered, its keep has this note."""
+        self.rows.append(("go", hold[1]))
+        keep, *above = self.cut[hold[1]]
+        self.put_keep(keep[1], note)
         self.standing.extend(above)
         self.answered(answer)

@@ -1,11 +1,6 @@
-"""What atoms are, and what the pieces bind that only work something out."""
+"""What the pieces bind that only work something out."""
 
 BILLION = 1000000000
-
-
-def worth(atom, names):
-    """What the atom is; names has what each name is."""
-    return names[atom] if isinstance(atom, str) else atom
 
 
 def sum_worth(sign, a, b):
@@ -21,15 +16,15 @@ def sum_worth(sign, a, b):
     return 1 if a == b else 0
 
 
-def plain_worth(piece, names):
-    """What a let, a sum, an empty, a put or a last binds."""
+def plain_worth(piece, worths):
+    """What a let, a sum, an empty, a put or a last binds; worths is what its atoms are, from the left."""
     sort = piece[0]
     if sort == "let":
-        return worth(piece[2], names)
+        return worths[0]
     if sort == "sum":
-        return sum_worth(piece[2], worth(piece[3], names), worth(piece[4], names))
+        return sum_worth(piece[2], worths[0], worths[1])
     if sort == "empty":
         return ()
-    first = worth(piece[2], names)
-    second = worth(piece[3], names)
-    return (first, *second) if sort == "put" else (*first, second)
+    if sort == "put":
+        return (worths[0], *worths[1])
+    return (*worths[0], worths[1])

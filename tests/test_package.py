@@ -17,8 +17,18 @@ INTERFACE = {
     "asking": ("asks_of", "way_of"),
     "walk": ("Walk",),
     "runs": ("ran",),
+    "codes": ("part_code", "code_of"),
+    "often": ("param_words", "hold_words"),
+    "machine": ("by_rows",),
+    "stairs": ("Stairs", "by_stairs"),
+    "books": ("check_book", "summed"),
+    "turned": ("laid_in", "let_go", "passed_on", "exchanged"),
+    "desk": ("answer",),
 }
-METHODS = {("walk", "Walk"): ("turn", "ladder", "steps", "end", "book")}
+METHODS = {
+    ("walk", "Walk"): ("turn", "ladder", "steps", "end", "book"),
+    ("stairs", "Stairs"): ("turn", "steps", "end", "book", "flights", "hearers"),
+}
 
 
 def bound_names(tree):
