@@ -216,3 +216,130 @@ def spoiled(program, seed):
         else:
             return read(" ".join(changed).replace(" \n ", "\n"))
     return read(" ".join(words).replace(" \n ", "\n"))
+
+
+class Tailed(Maker):
+    """Makes programs in which parts often end by what another gives, and hears often by their last go."""
+
+    def body(self, kinds, gives, budget, at):
+        self.at = at
+        return super().body(kinds, gives, budget, at)
+
+    def leaf(self, kinds, gives):
+        held = [name for name, kind in kinds.items() if kind[0] == "hold"]
+        if "h" in held and "n" in kinds and self.chance.random() < 0.9:
+            return self.gone(kinds, "h", gives) or super().leaf(kinds, gives)
+        if self.chance.random() < 0.4:
+            return super().leaf(kinds, gives)
+        sort = self.chance.choice(["call", "call", "keep", "keep", "keep", "go"])
+        if sort == "go":
+            return (held and self.gone(kinds, self.chance.choice(held), gives)) or super().leaf(kinds, gives)
+        f, params, kind = self.called(self.at)
+        args = self.atoms(kinds, [of for _, of in params])
+        x = self.fresh(kinds)
+        keepers = [k for k, (_, takes, given) in self.heads.items() if (takes, given) == (kind, gives)]
+        if args is not None and sort == "call" and kind == gives:
+            return ("call", x, f, args, ("give", x))
+        if args is not None and sort == "keep" and keepers:
+            k = self.chance.choice(keepers)
+            note = self.atom(kinds, self.heads[k][0])
+            if note is not None:
+                return ("keep", x, k, note, f, args, ("give", x))
+        return super().leaf(kinds, gives)
+
+    def gone(self, kinds, h, gives):
+        """A go with h and a give of what comes of it, or None."""
+        _, k, q = kinds[h]
+        answered = next(ask[2] for ask in self.asks if ask[0] == q)
+        found = self.atoms(kinds, (answered, self.heads[k][0]))
+        x = self.fresh(kinds)
+        return ("go", x, h, *found, ("give", x)) if found is not None and self.heads[k][2] == gives else None
+
+
+def made_tailed(seed):
+    """As made, but with more tails and last goes."""
+    return Tailed(seed).program()
+
+
+HEAR_BODIES = (
+    "let s be x + n ; let y be go h s s ; give y",
+    "let a be ask {q} x ; let y be go h a n ; give y",
+    "let a be ask {q} x ; let b be ask {r} a ; let y be go h b a ; give y",
+    "let a be keep {k} n {f} x ; let y be go h a a ; give y",
+    "let a be call {f} x ; let y be go h a n ; give y",
+    "if x : let a be ask {q} n ; let y be go h a 3 ; give y else let y be go h 7 n ; give y end",
+    "let a be ask {q} x ; let y be go h a n ; let z be y + 1 ; give z",
+    "let a be ask {q} x ; let y be call {goer} h a ; give y",
+    "let a be keep {k} n {goer} h x ; give a",
+    "let y be go h x n ; let z be go h y 1 ; let s be y + z ; give s",
+    "let y be go h x 5 ; let z be call {goer} h y ; give z",
+    "if n : let y be go h x 0 ; let z be go h y 0 ; give z else let y be go h x 1 ; give y end",
+    "tell x ; give x",
+)
+
+
+class Stacked:
+    """Makes programs whose keeps stand high, and whose hears ask and keep on their part; heard has who hears what."""
+
+    def __init__(self, seed):
+        self.chance = random.Random(seed)
+        self.heard = {k: self.chance.sample("qrs", self.some([1, 2, 2, 3])) for k in "klm"}
+        self.asks = sorted({q for heard in self.heard.values() for q in heard})
+
+    def some(self, things):
+        return self.chance.choice(things)
+
+    def filled(self, form, goer="g"):
+        return form.format(q=self.some(self.asks), r=self.some(self.asks), k=self.some("klm"), f=self.some("ghi"),
+                           goer=goer)
+
+    def body(self, many, deep):
+        """A function's body of about so many pieces; deep are the functions that it may keep or call."""
+        pieces = []
+        last = "a"
+        for k in range(many):
+            x = "bcde"[k]
+            forms = ["let {x} be ask %s {a} ; " % self.some(self.asks)] * 4 + ["let {x} be {a} + 1 ; ", "tell {a} ; "]
+            forms += ["let {x} be keep %s %d %s {a} ; " % (self.some("klm"), k, self.some(deep)),
+                      "let {x} be call %s {a} ; " % self.some(deep)] if deep else []
+            form = self.some(forms)
+            pieces.append(form.format(x=x, a=last))
+            last = x if "{x}" in form else last
+        if deep and self.chance.random() < 0.7:
+            f = self.some(deep)
+            pieces.append(self.some(["let z be keep %s %s %s %s ; " % (self.some("klm"), last, f, last),
+                                     "let z be call %s %s ; " % (f, last)]))
+            last = "z"
+        return "".join(pieces) + "give " + last
+
+    def keeper(self, k):
+        yield "keeper %s note num takes num gives num" % k
+        yield "end x n : " + self.filled(self.some(
+            ["give x"] * 5 + ["let y be x + n ; give y", "let y be ask {q} x ; give y", "let y be call {f} x ; give y"]))
+        for q in self.heard[k]:
+            yield "hears %s x h n : %s" % (q, self.filled(self.some(HEAR_BODIES), "go" + k + q))
+
+    def goer(self, k, q):
+        return "def go%s%s h hold %s %s a num to num : %s" % (k, q, k, q, self.filled(self.some(
+            ["let y be go h a a ; give y", "let b be ask {q} a ; let y be go h b a ; give y",
+             "let y be go h a 0 ; tell y ; give y"])))
+
+    def rows(self):
+        for q in "qrs":
+            yield "ask %s num to num" % q
+        for k in "klm":
+            yield from self.keeper(k)
+        # The first three put a keep of each keeper, so that little is left unheard.
+        for f, k, kept in zip(("main", "u", "v"), self.chance.sample("klm", 3), "uvw"):
+            yield "def %s a num to num : let z be keep %s a %s a ; %s" % (
+                f, k, kept, self.some(["give z", "give z", "let y be z + a ; give y"]))
+        for f, deep, many in (("w", "gh", 4), ("g", "hi", 3), ("h", "i", 3), ("i", "", 3)):
+            yield "def %s a num to num : %s" % (f, self.body(self.chance.randint(1, many), deep))
+        for k in "klm":
+            for q in self.heard[k]:
+                yield self.goer(k, q)
+
+
+def made_stacked(seed):
+    """A sound program whose function main has one number as its param."""
+    return read("\n".join(Stacked(seed).rows()))

@@ -33,6 +33,18 @@ class Runs(unittest.TestCase):
         self.assertEqual((end, steps), (("dry",), 600))
         self.assertEqual(book, [("tell", k) for k in range(200)])
 
+    def test_bounds_about_the_steps_of_a_run(self):
+        asked = "ask q num to num\ndef main a num to num : tell a ; let x be ask q a ; give x"
+        for program, args in ((RICH, [1]), (RICH, [3]), (read(asked), [5]), (read("def main to num : give 4"), [])):
+            end, steps, book = ran(program, "main", args, 10000)
+            self.assertIn(end[0], ("gave", "unheard"))
+            for bound in {0, 1, steps - 1}:
+                told = ran(program, "main", args, bound)
+                self.assertEqual(told[:2], (("dry",) if bound < steps else end, bound))
+                self.assertEqual(told[2], book[:len(told[2])])
+            for bound in (steps, steps + 1):
+                self.assertEqual(ran(program, "main", args, bound), (end, steps, book))
+
     def test_the_same_as_a_walk(self):
         for seed in range(60):
             program = made(seed)
