@@ -264,6 +264,7 @@ def made_tailed(seed):
 HEAR_BODIES = (
     "let s be x + n ; let y be go h s s ; give y",
     "let a be ask {q} x ; let y be go h a n ; give y",
+    "let a be ask {own} x ; let y be go h a n ; give y",
     "let a be ask {q} x ; let b be ask {r} a ; let y be go h b a ; give y",
     "let a be keep {k} n {f} x ; let y be go h a a ; give y",
     "let a be call {f} x ; let y be go h a n ; give y",
@@ -289,9 +290,9 @@ class Stacked:
     def some(self, things):
         return self.chance.choice(things)
 
-    def filled(self, form, goer="g"):
+    def filled(self, form, own="q", goer="g"):
         return form.format(q=self.some(self.asks), r=self.some(self.asks), k=self.some("klm"), f=self.some("ghi"),
-                           goer=goer)
+                           own=own, goer=goer)
 
     def body(self, many, deep):
         """A function's body of about so many pieces; deep are the functions that it may keep or call."""
@@ -317,7 +318,7 @@ class Stacked:
         yield "end x n : " + self.filled(self.some(
             ["give x"] * 5 + ["let y be x + n ; give y", "let y be ask {q} x ; give y", "let y be call {f} x ; give y"]))
         for q in self.heard[k]:
-            yield "hears %s x h n : %s" % (q, self.filled(self.some(HEAR_BODIES), "go" + k + q))
+            yield "hears %s x h n : %s" % (q, self.filled(self.some(HEAR_BODIES), q, "go" + k + q))
 
     def goer(self, k, q):
         return "def go%s%s h hold %s %s a num to num : %s" % (k, q, k, q, self.filled(self.some(
@@ -335,11 +336,67 @@ class Stacked:
                 f, k, kept, self.some(["give z", "give z", "let y be z + a ; give y"]))
         for f, deep, many in (("w", "gh", 4), ("g", "hi", 3), ("h", "i", 3), ("i", "", 3)):
             yield "def %s a num to num : %s" % (f, self.body(self.chance.randint(1, many), deep))
-        for k in "klm":
-            for q in self.heard[k]:
-                yield self.goer(k, q)
+
+    def program(self):
+        rows = list(self.rows())
+        text = "\n".join(rows)
+        rows += [self.goer(k, q) for k in "klm" for q in self.heard[k] if "go%s%s " % (k, q) in text]
+        return read("\n".join(rows))
 
 
 def made_stacked(seed):
     """A sound program whose function main has one number as its param."""
-    return read("\n".join(Stacked(seed).rows()))
+    return Stacked(seed).program()
+
+
+QUIET_HEARS = (
+    "let y be go h x n ; give y",
+    "let s be x + n ; let m be s * 2 ; let y be go h m s ; give y",
+    "if x : let y be go h n x ; give y else let y be go h 5 n ; give y end",
+    "let e be empty nums ; let r be put x e ; case r none let y be go h 0 0 ; give y more v w : "
+    "let y be go h v v ; give y end",
+)
+ROUSED_HEARS = (
+    "let y be go h x n ; let z be go h y n ; give z",
+    "let a be ask r x ; let y be go h a n ; give y",
+    "tell x ; let y be go h x n ; give y",
+    "let a be call i x ; let y be go h a n ; give y",
+    "give x",
+)
+
+
+class Exchangeable(Stacked):
+    """Makes programs in which keeps of functions that only keep stand in many places; few of them can't be exchanged."""
+
+    def keeper(self, k):
+        yield "keeper %s note num takes num gives num" % k
+        yield "end x n : " + self.some(["give x"] * 12 + ["let y be x + n ; give y"])
+        for q in self.heard[k]:
+            yield "hears %s x h n : %s" % (q, self.some(QUIET_HEARS * 8 + ROUSED_HEARS))
+
+    def __init__(self, seed):
+        super().__init__(seed)
+        self.heard = dict(zip("klmo", (["q"], ["r"], self.some([["s"], ["s", "q"], []]), ["t"])))
+        self.asks = sorted({q for heard in self.heard.values() for q in heard})
+
+    def rows(self):
+        for q in "qrst":
+            yield "ask %s num to num" % q
+        for k in "klm":
+            yield from self.keeper(k)
+        yield "keeper o note num takes num gives num"
+        yield "end x n : tell n ; give x"
+        yield "hears t x h n : " + self.some(QUIET_HEARS[:1] + ROUSED_HEARS[:1])
+        yield "def main a num to num : let x be keep o 7 u a 3 ; tell x ; give x"
+        yield "def u a num b num to num : let x be %s ; let y be x + a ; give y" % self.some([
+            "keep %s b v a b" % self.some("klm"), "keep %s 4 w b a" % self.some("klm"), "call v 2 a"])
+        for f, under in (("v", "w"), ("w", "i")):
+            yield "def %s a num b num to num : let z be keep %s %s %s %s ; %s" % (
+                f, self.some("klm"), self.some(["a", "b", "9"]), under, "a b" if under == "w" else "b",
+                self.some(["give z"] * 9 + ["give a", "tell z ; give z"]))
+        yield "def i a num to num : " + self.body(3, "")
+
+
+def made_exchangeable(seed):
+    """A sound program whose function main has one number as its param."""
+    return Exchangeable(seed).program()
