@@ -43,8 +43,8 @@ class Machine:
         self.most = max(self.most, many_counted(self.standing))
         if self.given is None:
             part = self.standing[-1]
-            row = part.row()
-            do_piece(self, row, part.worths(atoms_of(row)))
+            row = part.next_row()
+            do_piece(self, row, part.worths_in_slots(atoms_of(row)))
         else:
             self.give_on()
 
@@ -74,17 +74,17 @@ class Machine:
 
     def answered(self, given):
         part = self.standing[-1]
-        part.go_on(part.at + 1, [part.row()[1]], [given])
+        part.bind_on(part.at + 1, [part.next_row()[1]], [given])
 
     def tell(self, number):
         self.rows.append(("tell", number))
         part = self.standing[-1]
-        part.go_on(part.at + 1, [], [])
+        part.bind_on(part.at + 1, [], [])
 
     def choose(self, second, worths):
         part = self.standing[-1]
-        row = part.row()
-        part.go_on(row[-1] if second else part.at + 1, row[2:-1], worths)
+        row = part.next_row()
+        part.bind_on(row[-1] if second else part.at + 1, row[2:-1], worths)
 
     def call(self, f, handed):
         self.put_off()
@@ -182,7 +182,10 @@ class Machine:
         self.count_more(at - 1)
 
     def lay_back(self, hold, note):
-        keep, *above = hold.rungs if hold.word == "once" and not hold.marked else self.copies(hold.rungs)
+        rungs = hold.rungs
+        if hold.word != "once" or hold.marked:
+            rungs = self.copies(rungs)
+        keep, *above = rungs
         keep.note = note
         self.put_keep(keep)
         self.standing.extend(above)
@@ -201,4 +204,4 @@ def by_rows(program, f, args, bound):
     while machine.done < bound and machine.ended is None:
         machine.step()
     end = ("dry",) if machine.ended is None else machine.ended
-    return (end, machine.done, list(machine.rows), machine.copied, machine.most)
+    return (end, machine.done, machine.rows, machine.copied, machine.most)

@@ -17,7 +17,7 @@ class Run:
         self.done = 0
         self.ended = None
 
-    def step(self, part, number, names):
+    def do_next(self, part, number, names):
         """Does this piece of the part, which is the highest."""
         self.done += 1
         numbered = self.numbered[part]

@@ -14,17 +14,17 @@ class Part:
         other.at = self.at
         return other
 
-    def row(self):
+    def next_row(self):
         return self.rows[self.at]
 
-    def worths(self, atoms):
+    def worths_in_slots(self, atoms):
         return [self.slots[told] if sort == "slot" else told for sort, told in atoms]
 
     def gives_at_once(self):
         """True where right behind its row what that binds is given."""
-        return self.rows[self.at + 1] == ("give", ("slot", self.row()[1]))
+        return self.rows[self.at + 1] == ("give", ("slot", self.next_row()[1]))
 
-    def go_on(self, following, slots, worths):
+    def bind_on(self, following, slots, worths):
         """Binds the slots, and has the following row next."""
         for slot, worth in zip(slots, worths):
             self.slots[slot] = worth

@@ -35,7 +35,7 @@ class Stairs(Run):
         if self.ended is not None:
             return False
         part, number, names = self.standing[-1].parts[-1]
-        self.step(part, number, names)
+        self.do_next(part, number, names)
         return self.ended is None
 
     def steps(self):

@@ -24,7 +24,7 @@ class Walk(Run):
         if self.ended is not None:
             return False
         _, part, number, names = self.standing[-1]
-        self.step(part, number, names)
+        self.do_next(part, number, names)
         return self.ended is None
 
     def ladder(self):
@@ -46,9 +46,6 @@ class Walk(Run):
     def put_part(self, part, begun):
         self.standing.append(("part", part, 0, self.numbered[part].names_with(begun)))
 
-    def put_keep(self, keeper, note):
-        self.standing.append(("keep", keeper, note))
-
     def go_on(self, second, worths):
         """The highest part goes on in the first or the second body of its piece, whose names are bound to these."""
         _, part, number, names = self.standing[-1]
@@ -57,7 +54,7 @@ class Walk(Run):
 
     def keep(self, keeper, note, f, handed):
         self.rows.append(("keep", keeper))
-        self.put_keep(keeper, note)
+        self.standing.append(("keep", keeper, note))
         self.put_part(("def", f), handed)
 
     def give(self, given):
@@ -96,6 +93,6 @@ class Walk(Run):
         """Lays back what is held: its asking part is answered, its keep has this note."""
         self.rows.append(("go", hold[1]))
         keep, *above = self.cut[hold[1]]
-        self.put_keep(keep[1], note)
+        self.standing.append(("keep", keep[1], note))
         self.standing.extend(above)
         self.answered(answer)

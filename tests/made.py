@@ -297,21 +297,23 @@ class Stacked:
     def body(self, many, deep):
         """A function's body of about so many pieces; deep are the functions that it may keep or call."""
         pieces = []
-        last = "a"
+        bound = ["a"]
         for k in range(many):
-            x = "bcde"[k]
-            forms = ["let {x} be ask %s {a} ; " % self.some(self.asks)] * 4 + ["let {x} be {a} + 1 ; ", "tell {a} ; "]
+            forms = ["let {x} be ask %s {a} ; " % self.some(self.asks)] * 4 + ["let {x} be {a} + {b} ; ", "tell {a} ; "]
             forms += ["let {x} be keep %s %d %s {a} ; " % (self.some("klm"), k, self.some(deep)),
                       "let {x} be call %s {a} ; " % self.some(deep)] if deep else []
             form = self.some(forms)
-            pieces.append(form.format(x=x, a=last))
-            last = x if "{x}" in form else last
+            pieces.append(form.format(x="bcde"[k], a=self.some([*bound, bound[-1]]), b=self.some(bound)))
+            bound += ["bcde"[k]] if "{x}" in form else []
         if deep and self.chance.random() < 0.7:
             f = self.some(deep)
-            pieces.append(self.some(["let z be keep %s %s %s %s ; " % (self.some("klm"), last, f, last),
-                                     "let z be call %s %s ; " % (f, last)]))
-            last = "z"
-        return "".join(pieces) + "give " + last
+            pieces.append(self.some(["let z be keep %s %s %s %s ; " % (self.some("klm"), bound[-1], f, self.some(bound)),
+                                     "let z be call %s %s ; " % (f, bound[-1])]))
+            bound = ["z"]
+        elif self.chance.random() < 0.5:
+            pieces.append("let z be %s + %s ; " % (self.some(bound), bound[-1]))
+            bound = ["z"]
+        return "".join(pieces) + "give " + bound[-1]
 
     def keeper(self, k):
         yield "keeper %s note num takes num gives num" % k

@@ -299,6 +299,31 @@ class Copies(Checked):
         told = self.same_at_all_bounds(sound(text), "main", [])
         self.assertEqual((told[0], told[3]), (("gave", 5), 2 * (4 + 2)))
 
+    TWO = "let y be go h 1 n ; let z be go h 2 n ; let s be y + z ; give s"
+    AGAIN = "let y be go h x n ; let z be go h x n ; let s be y + z ; give s"
+
+    def test_copies_have_slots_of_their_own(self):
+        # While a copy of f in which a is 1 is held by o, another runs in which it is 2.
+        text = (ASKS + keeper("o", "t " + self.AGAIN) + keeper("k", "q " + self.TWO) +
+                "def main to num : let x be keep o 0 u ; give x\n"
+                "def u to num : let x be keep k 0 f ; let z be x + 0 ; give z\n"
+                "def f to num : let a be ask q 0 ; let b be ask t a ; tell a ; give b")
+        told = self.same_at_all_bounds(sound(text), "main", [])
+        self.assertEqual([row[1] for row in told[2] if row[0] == "tell"], [1, 2, 2, 1, 2, 2])
+
+    def test_copies_have_keeps_and_passes_of_their_own(self):
+        # l's keep stands within what k and o copy; its note becomes 1 in one copy, 2 in another; g is off all the while.
+        text = (ASKS + keeper("o", "t " + self.AGAIN) + keeper("k", "q " + self.TWO) +
+                keeper("l", "r let y be go h n x ; give y") +
+                "def main to num : let x be keep o 0 u ; give x\n"
+                "def u to num : let x be keep k 0 g ; let z be x + 0 ; give z\n"
+                "def g to num : let x be call w ; give x\n"
+                "def w to num : let x be keep l 9 f ; let z be x + 1 ; give z\n"
+                "def f to num : let a be ask q 0 ; let b be ask r a ; let c be ask t a ; let d be ask r 7 ; tell d ; "
+                "give c")
+        told = self.same_at_all_bounds(sound(text), "main", [])
+        self.assertEqual([row[1] for row in told[2] if row[0] == "tell"], [1, 2, 2, 1, 2, 2])
+
     def test_passes_are_copied_along(self):
         # What f and g would give on lies in the cut, twice each time, and counts in no number.
         self.tells(ASKS + keeper("k", "q " + OFTEN) + "def main to num : let x be keep k 0 f ; give x\n"

@@ -308,6 +308,20 @@ class PassedOn(Checked):
             program = sound(self.text("hears q x h n : %s\n" % form))
             self.refused(passed_on, program, "k", "q")
 
+    def test_not_the_form_by_names_that_are_alike(self):
+        # Another piece stands where the ask should, with the same names in the same places.
+        for piece in ("put q x", "last q x"):
+            kinds = ("num", "nums") if piece == "put q x" else ("nums", "num")
+            text = ("ask q %s to nums\nkeeper k note %s takes num gives num\nend x n : give x\n"
+                    "hears q x h q : let y be %s ; let z be go h y q ; give z\n" % (kinds[1], kinds[0], piece))
+            self.refused(passed_on, sound(text), "k", "q")
+        text = ("ask q num to num\nkeeper q note num takes num gives num\nend x n : give x\n"
+                "hears q x h n : let y be keep q x f ; let z be go h y n ; give z\ndef f to num : give 1")
+        self.refused(passed_on, sound(text), "q", "q")
+        text = ("ask q num to num\nkeeper k note num takes num gives num\nend x n : give x\n"
+                "hears q x h n : let y be call q x ; let z be go h y n ; give z\ndef q a num to num : give a")
+        self.refused(passed_on, sound(text), "k", "q")
+
     def test_no_kind_of_its_hold_may_stand_anywhere(self):
         for kind in ("hold k q", "holds k q"):
             rest = "def f to num : give 1\ndef g to num : give 2\n"
@@ -467,6 +481,12 @@ class Exchanged(Checked):
                 self.refuses(head)
                 self.refuses(self.changed(**{place: "if x : let y be go h x n ; give y else "
                                              "%s let y be go h x n ; give y end" % more}))
+        # A function and a keeper that are called as the hold is.
+        more = "\ndef h a num b num to num : give a"
+        self.refuses(self.changed(k_hear="let a be call h x n ; let y be go h a n ; give y"), self.OLD_U, self.F + more)
+        head = self.changed(k_hear="let a be keep h 0 g x n ; let y be go h a n ; give y",
+                            more="keeper h note num takes num gives num\nend x n : give x\n")
+        self.refuses(head)
         # A go with another hold, that of k's note.
         head = self.changed(note="holds o s", k_hear="case n none let y be go h x n ; give y more v w : "
                             "let a be go v x 0 ; let y be go h a w ; give y end")
